@@ -1,0 +1,1 @@
+"""Craneyard: cranes on one rail that can't pass one another."""
