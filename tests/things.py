@@ -1,4 +1,26 @@
-"""Things of many kinds, for whatever must hold of anything."""
+"""Things of many kinds, for whatever must hold of anything, and what several tests ask."""
+
+import unittest
+
+from craneyard.errors import CraneError
+
+
+class Case(unittest.TestCase):
+    """A test that asks for refusals of just one kind."""
+
+    def assert_refused(self, kind, action, *arguments):
+        with self.assertRaises(CraneError) as caught:
+            action(*arguments)
+        self.assertIs(caught.exception.__class__, kind, arguments)
+
+
+def all_of(stacks):
+    """All that stacks tell of themselves."""
+    told = {}
+    for name in stacks.names():
+        row = (stacks.place_of(name), stacks.high(name), stacks.weight(name), stacks.boxes(name))
+        told[name] = row, [(stacks.where(box), stacks.is_top(box)) for box, _ in row[3]]
+    return told
 
 
 class Odd:
@@ -47,3 +69,16 @@ def no_texts():
 def no_numbers():
     """Things that are no whole numbers."""
     return no_texts() + ["", "a", "abc", "0", "1", "-1", "abc def", "\n"]
+
+
+def no_names():
+    """Things that are no names, and no whole numbers."""
+    texts = ["", "A", "aB", "a1", "1", "a b", " a", "a ", "a\n", "a-b", "abcdefghi", "a" * 99, "\t", "{", "`"]
+    return no_texts() + texts
+
+
+def all_of_yard(yard):
+    """All that a yard tells of itself."""
+    cranes = [(yard.jobs_of(crane), yard.phase(crane), yard.holds(crane)) for crane in range(len(yard.rail.cranes))]
+    jobs = [(yard.job(number), yard.crane_of(number), yard.is_done(number)) for number in range(yard.many_jobs())]
+    return yard.places(), all_of(yard.stacks()), cranes, jobs, yard.many_turns()
