@@ -26,7 +26,7 @@ def turn(yard):
     goals = [goal(yard, crane) for crane in _cranes(yard)]
     yard.go(moved(yard.rail, yard.places(), at_work, goals, ranks(yard)))
     for crane in ranks(yard):
-        if stands_at_goal(yard, crane) and _may_begin(yard, crane):
+        if stands_at_goal(yard, crane) and hindrance(yard, crane) is None:
             yard.begin(crane)
     return yard.places()
 
@@ -39,36 +39,36 @@ def gone_on(yard, many):
 
 def stands_at_goal(yard, crane):
     """Whether the crane is coming or bringing, and is where it comes or brings to."""
-    return yard.places()[crane] == goal(yard, crane)
+    # The goal comes first: it refuses what is no crane.
+    return goal(yard, crane) == yard.places()[crane]
 
 
-def first_met(yard, crane):
-    """The first job that isn't done, has a lesser number than the crane's present one and meets it, or None."""
-    present = yard.present(crane)
-    for number in yard.undone():
-        if number < present and yard.meet(number, present):
-            return number
+def hindrance(yard, crane):
+    """Why the crane, which is coming or bringing, may not begin: ("job", NUMBER), ("way", CRANE), or None."""
+    if yard.phase(crane)[0] == COMING:
+        met = _first_met(yard, yard.present(crane))
+        if met is not None:
+            return "job", met
+    for other in _cranes(yard):
+        if _is_in_way(yard, crane, other):
+            return "way", other
     return None
 
 
-def first_hindered(yard, crane):
-    """The first crane in whose way this one, which has a job, stands, or None."""
-    for other in _cranes(yard):
-        if other != crane and _is_in_way(yard, crane, other):
+def _first_met(yard, number):
+    """The first job that isn't done, has a lesser number and meets this one, or None."""
+    for other in yard.undone():
+        if other >= number:
+            return None
+        if yard.meet(other, number):
             return other
     return None
-
-
-def _may_begin(yard, crane):
-    if yard.phase(crane)[0] == COMING and first_met(yard, crane) is not None:
-        return False
-    return first_hindered(yard, crane) is None
 
 
 def _is_in_way(yard, crane, other):
     """Whether the crane stands where the other one, whose job is the elder, needs to be or needs the room."""
     elder = yard.present(other)
-    if elder is None or elder > yard.present(crane):
+    if elder is None or elder >= yard.present(crane):
         return False
     needed = goal(yard, other)
     if needed is None:

@@ -33,3 +33,12 @@ def number_of(word):
     if number > GREATEST_NUMBER:
         return None
     return number
+
+
+def words_of(line):
+    """A list of the words of a line, which have one blank between; an empty one of what is no line."""
+    # A text with a line end is several lines, and none.
+    if not isinstance(line, str) or "\n" in line:
+        return []
+    words = line.split(" ")
+    return [] if "" in words else words

@@ -123,13 +123,13 @@ class Yard:
         """The place of this stack."""
         return self._stacks.place_of(stack)
 
-    def go(self, places):
-        """A turn goes by: all cranes stand at these places, and each one at work has one turn less."""
-        self._turns += 1
+    def go(self, places, many=1):
+        """Turns go by, of which at most the last one ends any work: all cranes stand at these places behind them."""
+        self._turns += many
         self._places = list(places)
         for crane in range(len(places)):
             if self._lefts[crane] > 0:
-                self._lefts[crane] -= 1
+                self._lefts[crane] -= many
                 if self._lefts[crane] == 0:
                     self._end_work(crane)
 

@@ -58,3 +58,11 @@ class Chance:
         box, origin, target = self.yard.job(number)
         self.model.give(box, origin, target, self.yard.crane_of(number))
         return number
+
+    def text(self):
+        """The text that writes the yard as it was made; boxes of unlike stacks are mixed."""
+        rows = [f"rail {self.rail.end} {self.rail.room}"]
+        rows += [f"crane {speed} {hoist} {place}" for (speed, hoist), place in zip(self.cranes, self.places)]
+        rows += [f"stack {name} {place} {high} {weight}" for name, place, high, weight in self.rows]
+        rows += [f"box {box} {weight} {stack}" for box, weight, stack in self.boxes]
+        return "\n".join(rows)

@@ -21,6 +21,10 @@ INTERFACE = {
         "many_turns", "copied",
     )]],
     "turns": ["ranks", "goal", "turn", "gone_on"],
+    "forecast": ["bound", "when_done", "places_in", "why"],
+    "texts": ["yard_of"],
+    "journals": ["Keeper", "Keeper.done", "Keeper.lines", "Keeper.yard", "redone"],
+    "desk": ["Desk", "Desk.say"],
 }
 ARGUMENTS = {
     "is_name": ["thing"],
@@ -65,6 +69,18 @@ ARGUMENTS = {
     "goal": ["yard", "crane"],
     "turn": ["yard"],
     "gone_on": ["yard", "many"],
+    "bound": ["yard", "number"],
+    "when_done": ["yard", "number", "most"],
+    "places_in": ["yard", "many"],
+    "why": ["yard", "crane"],
+    "yard_of": ["text"],
+    "Keeper.__init__": ["self", "text"],
+    "Keeper.done": ["self", "line"],
+    "Keeper.lines": ["self"],
+    "Keeper.yard": ["self"],
+    "redone": ["text", "lines"],
+    "Desk.__init__": ["self", "text"],
+    "Desk.say": ["self", "line"],
 }
 LIBRARY = {"heapq", "math", "itertools", "collections"}
 BARRED = (ast.Global, ast.AsyncFunctionDef, ast.AsyncFor, ast.AsyncWith, ast.Await, ast.Import, ast.Div)

@@ -1,8 +1,8 @@
-"""Point [2]: names and numbers of craneyard/words.py."""
+"""Point [2]: names and numbers of craneyard/words.py, and the words of lines."""
 
 import unittest
 
-from craneyard.words import is_among, is_name, number_of
+from craneyard.words import is_among, is_name, number_of, words_of
 from things import no_numbers, no_texts
 
 
@@ -98,6 +98,24 @@ class Numbers(unittest.TestCase):
         for thing in no_texts() + [0, 1, 5, -1, 10 ** 12, 10 ** 9000]:
             with self.subTest(thing.__class__):
                 self.assertIsNone(number_of(thing))
+
+
+class Lines(unittest.TestCase):
+    def test_words_with_one_blank_between(self):
+        for words in (["turn"], ["give", "x", "a"], ["give", "x", "a", "0"], ["crane", "01"], ["-", "~", "!"]):
+            with self.subTest(words):
+                self.assertEqual(words_of(" ".join(words)), words)
+        self.assertEqual(words_of("a\tb c"), ["a\tb", "c"])
+
+    def test_no_lines(self):
+        for line in ("", " ", "  ", " a", "a ", "a  b", "a   b", "\n", "a\n", "\na", "a\nb", "a b\n", "a \nb"):
+            with self.subTest(line):
+                self.assertEqual(words_of(line), [])
+
+    def test_of_anything(self):
+        for thing in no_texts() + [0, 1]:
+            with self.subTest(repr(thing)):
+                self.assertEqual(words_of(thing), [])
 
 
 if __name__ == "__main__":

@@ -2,7 +2,7 @@
 
 import unittest
 
-from craneyard.errors import CraneError
+from craneyard.errors import BadJournal, BadText, CraneError
 
 
 class Case(unittest.TestCase):
@@ -12,6 +12,15 @@ class Case(unittest.TestCase):
         with self.assertRaises(CraneError) as caught:
             action(*arguments)
         self.assertIs(caught.exception.__class__, kind, arguments)
+        return caught.exception
+
+    def assert_bad_text(self, line, action, *arguments):
+        error = self.assert_refused(BadText, action, *arguments)
+        self.assertEqual((error.line, error.line.__class__), (line, int), arguments)
+
+    def assert_bad_journal(self, place, action, *arguments):
+        error = self.assert_refused(BadJournal, action, *arguments)
+        self.assertEqual((error.place, error.place.__class__), (place, int), arguments)
 
 
 def all_of(stacks):
