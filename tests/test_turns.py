@@ -3,20 +3,9 @@
 import unittest
 
 from craneyard import errors
-from craneyard.rails import Rail
-from craneyard.stacks import Stacks
 from craneyard.turns import goal, gone_on, ranks, turn
-from craneyard.yards import Yard
 from chance import Chance
-from things import Case, all_of, all_of_yard, no_numbers
-
-
-def yard_of(end, room, cranes, places, stacks, boxes):
-    """A yard by stacks (NAME, PLACE) and boxes (BOX, STACK)."""
-    made = Stacks([(name, place, 5, 100) for name, place in stacks])
-    for box, stack in boxes:
-        made.put(box, 1, stack)
-    return Yard(Rail(end, room, cranes), made, places)
+from things import Case, all_of, all_of_yard, no_numbers, yard_of
 
 
 def words(yard):

@@ -3,6 +3,9 @@
 import unittest
 
 from craneyard.errors import BadJournal, BadText, CraneError
+from craneyard.rails import Rail
+from craneyard.stacks import Stacks
+from craneyard.yards import Yard
 
 
 class Case(unittest.TestCase):
@@ -84,6 +87,14 @@ def no_names():
     """Things that are no names, and no whole numbers."""
     texts = ["", "A", "aB", "a1", "1", "a b", " a", "a ", "a\n", "a-b", "abcdefghi", "a" * 99, "\t", "{", "`"]
     return no_texts() + texts
+
+
+def yard_of(end, room, cranes, places, stacks, boxes):
+    """A yard by stacks (NAME, PLACE) and boxes (BOX, STACK)."""
+    made = Stacks([(name, place, 5, 100) for name, place in stacks])
+    for box, stack in boxes:
+        made.put(box, 1, stack)
+    return Yard(Rail(end, room, cranes), made, places)
 
 
 def all_of_yard(yard):
