@@ -10,7 +10,7 @@ from things import Case, all_of_yard, no_numbers, yard_of
 
 
 def two_cranes():
-    """Cranes of hoist 3 and 2; x goes from a to b by crane 0, y from c to b by crane 1, then x from b to a."""
+    """Crane 0 brings x from a to b, then crane 1 brings y from c to b, y back to c, and x back to a."""
     yard = yard_of(
         30, 2, [(4, 3), (5, 2)], [0, 30], [("a", 4), ("b", 12), ("c", 22)], [("x", "a"), ("y", "c")],
     )
