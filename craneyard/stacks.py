@@ -13,7 +13,7 @@ class Stacks:
     def __init__(self, stacks):
         if not _are_stacks(stacks):
             raise BadStack("there are no such stacks")
-        self._told = {name: (place, most, heaviest) for name, place, most, heaviest in stacks}
+        self._told = {row[0]: row for row in stacks}
         self._piles = {name: [] for name in self._told}
         self._lying = {}
 
@@ -24,17 +24,21 @@ class Stacks:
     def place_of(self, stack):
         """The place of this stack."""
         self._ask_stack(stack)
-        return self._told[stack][0]
+        return self._told[stack][1]
+
+    def farthest(self):
+        """The greatest place of all stacks."""
+        return max([place for _, place, _, _ in self._told.values()])
 
     def high(self, stack):
         """How many boxes this stack may have."""
         self._ask_stack(stack)
-        return self._told[stack][1]
+        return self._told[stack][2]
 
     def weight(self, stack):
         """How much the boxes of this stack may weigh together."""
         self._ask_stack(stack)
-        return self._told[stack][2]
+        return self._told[stack][3]
 
     def boxes(self, stack):
         """A list of the boxes (BOX, WEIGHT) of this stack, from below."""
@@ -76,7 +80,9 @@ class Stacks:
 
     def copied(self):
         """Stacks alike, which go on by themselves."""
-        alike = Stacks([(name, *bounds) for name, bounds in self._told.items()])
+        # Handed in is one stack alone, so that not all are checked again; what is told of them never changes.
+        alike = Stacks(list(self._told.values())[:1])
+        alike._told = self._told
         alike._piles = {name: list(pile) for name, pile in self._piles.items()}
         alike._lying = dict(self._lying)
         return alike
@@ -90,7 +96,7 @@ class Stacks:
             raise NoStack("there is no such stack")
 
     def _ask_space(self, weight, stack):
-        _, most, heaviest = self._told[stack]
+        _, _, most, heaviest = self._told[stack]
         pile = self._piles[stack]
         if len(pile) >= most:
             raise TooHigh("this stack may not have so many boxes")

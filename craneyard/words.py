@@ -7,9 +7,10 @@ MOST_FIGURES = 13
 
 def is_name(thing):
     """Whether this is a text of one to eight small letters a to z."""
-    if not isinstance(thing, str) or not 1 <= len(thing) <= LONGEST_NAME:
+    if not isinstance(thing, str) or len(thing) > LONGEST_NAME:
         return False
-    return all(["a" <= sign <= "z" for sign in thing])
+    # An empty text has no small letter, and so it isn't lower.
+    return thing.islower() and thing.isalpha() and thing.isascii()
 
 
 def is_among(thing, least, most):
